@@ -1,0 +1,1 @@
+"""Chairstack: which chairs surely stack on which, from a few trials."""
