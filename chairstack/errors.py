@@ -25,7 +25,8 @@ class UnknownMake(ChairError):
 
 class InvalidNumber(ChairError):
     def __init__(self, number):
-        super().__init__(f"this number is out of range: {number}")
+        # The message does not show the number: Python refuses to write out one of thousands of digits.
+        super().__init__("this number is out of range")
         self.number = number
 
 
@@ -48,7 +49,7 @@ class UnlikeMakes(ChairError):
 
 class UnknownTrial(ChairError):
     def __init__(self, number):
-        super().__init__(f"no trial with this number is kept: {number}")
+        super().__init__("no trial with this number is kept")
         self.number = number
 
 
@@ -94,7 +95,7 @@ class NotEnough(ChairError):
 
 class UnknownLoan(ChairError):
     def __init__(self, number):
-        super().__init__(f"there is no loan with this number: {number}")
+        super().__init__("there is no loan with this number")
         self.number = number
 
 

@@ -1,9 +1,9 @@
 """Numbered trials: lists of any trials, and records that some order agrees with."""
 
+from chairstack.conflicts import smallest_conflict
 from chairstack.errors import Contradiction, Full, InvalidWord, UnknownTrial, UnlikeMakes
 from chairstack.names import check_known, check_makes, check_new_make
 from chairstack.orders import Order
-from chairstack.paths import shortest_path
 
 WORDS = ("sits", "refuses")
 
@@ -105,10 +105,7 @@ class Record(TrialList):
     def note(self, word, upper, lower):
         """Keep a trial and return its number; an error if no order would agree with all trials."""
         self._check_trial(word, upper, lower)
-        if word == "sits":
-            numbers = self.conflict((upper, lower))
-        else:
-            numbers = self._conflict_of_refusal(upper, lower)
+        numbers = smallest_conflict(self.trials(), [(word, upper, lower)])
         if numbers is not None:
             raise Contradiction(numbers)
         return self._keep(word, upper, lower)
@@ -118,13 +115,7 @@ class Record(TrialList):
         for upper, lower in pairs:
             check_known(self._makes, upper)
             check_known(self._makes, lower)
-        steps = self._steps() + [(upper, lower, []) for upper, lower in pairs]
-        found = []
-        for number, word, upper, lower in self.trials():
-            path = shortest_path(steps, upper, lower) if word == "refuses" else None
-            if path is not None:
-                found.append([number] + path)
-        return sorted(min(found, key=len)) if found else None
+        return smallest_conflict(self.trials(), [("sits", upper, lower) for upper, lower in pairs])
 
     def saw(self, *stack):
         """Keep what a standing stack shows, from the floor up, and return the numbers of the new trials."""
@@ -145,10 +136,3 @@ class Record(TrialList):
         twin = Record(*self._makes)
         self._hand_trials_to(twin)
         return twin
-
-    def _conflict_of_refusal(self, upper, lower):
-        path = shortest_path(self._steps(), upper, lower)
-        return None if path is None else sorted(path)
-
-    def _steps(self):
-        return [(upper, lower, [number]) for number, word, upper, lower in self.trials() if word == "sits"]

@@ -24,9 +24,21 @@ def closed_with(rows, places):
     return rows
 
 
-def marked(rows, upper, lower):
-    """The rows with this one pair more; they need not be an order."""
-    return [row | (1 << lower) if index == upper else row for index, row in enumerate(rows)]
+def closed(rows):
+    """The smallest order that has all pairs of the rows, which have each make on itself."""
+    for index in range(len(rows)):
+        # After this step each way whose inner makes are the first ones, up to this index, is a pair.
+        below = rows[index]
+        rows = [row | below if (row >> index) & 1 else row for row in rows]
+    return rows
+
+
+def marked(rows, places):
+    """The rows with these places more; they need not be an order."""
+    more = list(rows)
+    for upper, lower in places:
+        more[upper] |= 1 << lower
+    return more
 
 
 def share_a_place(rows, others):
@@ -34,15 +46,26 @@ def share_a_place(rows, others):
     return any([row & other for row, other in zip(rows, others)])
 
 
+def without(rows, others):
+    """The places of the rows that the other rows do not have, as rows."""
+    return [row & ~other for row, other in zip(rows, others)]
+
+
+def count_places(rows):
+    """The number of places that the rows have."""
+    return sum([f"{row:b}".count("1") for row in rows])
+
+
 def unlike_places(count):
     """The pairs of different makes, in the order of pairs."""
     return [(upper, lower) for upper in range(count) for lower in range(count) if upper != lower]
 
 
+def places_in(rows):
+    """The places of different makes that the rows have, in the order of pairs."""
+    return [(upper, lower) for upper, lower in unlike_places(len(rows)) if has_place(rows, upper, lower)]
+
+
 def named_pairs(makes, rows):
     """The pairs of different makes that the rows have, in the order of pairs."""
-    return [
-        (makes[upper], makes[lower])
-        for upper, lower in unlike_places(len(makes))
-        if has_place(rows, upper, lower)
-    ]
+    return [(makes[upper], makes[lower]) for upper, lower in places_in(rows)]

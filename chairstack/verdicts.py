@@ -1,10 +1,10 @@
 """What holds in every order that agrees with all trials of a record, and what holds in some of them."""
 
-from chairstack.bounds import barred_rows, is_possible, least_rows, place_verdict
+from chairstack.bounds import barred_rows, is_possible, least_rows, place_verdict, possible_rows
 from chairstack.errors import NoGreatest
 from chairstack.names import make_index, pair_places
 from chairstack.orders import order_of_rows
-from chairstack.rows import closed_with, has_place, marked, named_pairs, share_a_place, unlike_places
+from chairstack.rows import closed_with, has_place, marked, named_pairs, share_a_place, unlike_places, without
 
 
 def verdict(record, upper, lower):
@@ -21,23 +21,20 @@ def least(record):
 
 def possible_pairs(record):
     """The pairs of different makes that some admissible order has, in the order of pairs."""
-    return named_pairs(record.makes, _possible_rows(record))
+    return named_pairs(record.makes, possible_rows(least_rows(record), barred_rows(record)))
 
 
 def open_pairs(record):
     """Yield the pairs with the verdict "open", in the order of pairs."""
-    makes = record.makes
     rows = least_rows(record)
-    barred = barred_rows(record)
-    for upper, lower in unlike_places(len(makes)):
-        if place_verdict(rows, barred, upper, lower) == "open":
-            yield (makes[upper], makes[lower])
+    for pair in named_pairs(record.makes, without(possible_rows(rows, barred_rows(record)), rows)):
+        yield pair
 
 
 def greatest(record):
     """The admissible order of which every admissible order is a part; an error if there is none."""
     makes = record.makes
-    rows = _possible_rows(record)
+    rows = possible_rows(least_rows(record), barred_rows(record))
     gaps = _gaps(rows)
     if gaps:
         first, middle, last = gaps[0]
@@ -71,7 +68,7 @@ def all_orders(record):
                 more = closed_with(rows, [(upper, lower)])
                 if not share_a_place(more, barred):
                     waiting.append((index + 1, more, barred))
-                barred = marked(barred, upper, lower)
+                barred = marked(barred, [(upper, lower)])
         yield order_of_rows(makes, rows)
 
 
@@ -84,17 +81,6 @@ def alike(record, first, second):
         return "alike"
     both = [(one, two), (two, one)]
     return "open" if is_possible(rows, barred_rows(record), both) else "unlike"
-
-
-def _possible_rows(record):
-    """Rows with every pair that some admissible order has; they need not be an order."""
-    rows = least_rows(record)
-    barred = barred_rows(record)
-    possible = rows
-    for upper, lower in unlike_places(len(record.makes)):
-        if is_possible(rows, barred, [(upper, lower)]):
-            possible = marked(possible, upper, lower)
-    return possible
 
 
 def _gaps(rows):

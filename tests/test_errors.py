@@ -54,6 +54,13 @@ class ErrorClasses(unittest.TestCase):
             with self.assertRaises(TypeError):
                 getattr(errors, name)(*attributes.values(), "more")
 
+    def test_numbers_of_any_size(self):
+        for name in ("InvalidNumber", "UnknownTrial", "UnknownLoan"):
+            for number in (10 ** 5000, -10 ** 5000):
+                error = getattr(errors, name)(number)
+                self.assertEqual(error.number, number)
+                self.assertIsInstance(str(error), str)
+
     def test_lists_are_copied(self):
         numbers, indexes = [1, 2], [0]
         first = errors.Contradiction(numbers)

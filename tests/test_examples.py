@@ -1,4 +1,4 @@
-"""Every example of the interface for errors, orders, records and verdicts, as DOC.md shows it."""
+"""Every example of the interface up to doubtful records, as DOC.md shows it."""
 
 import ast
 import unittest
@@ -76,6 +76,78 @@ raises NoGreatest(first='elm', middle='ash', last='oak')
 >>> record = Record("oak", "ash")
 >>> [order.pairs() for order in all_orders(record)]
 [[], [('ash', 'oak')], [('oak', 'ash')], [('oak', 'ash'), ('ash', 'oak')]]
+
+>>> from chairstack.certificates import certify
+>>> from chairstack.records import Record
+>>> record = Record("oak", "ash", "elm")
+>>> record.note("sits", "ash", "oak")
+>>> record.note("refuses", "elm", "oak")
+>>> paper = certify(record, "elm", "ash")
+>>> [paper.claim(), paper.before, paper.number, paper.after, paper.holds(record)]
+['elm on ash: refuses', [], 2, [1], True]
+
+>>> from chairstack.certificates import SitsCertificate
+>>> from chairstack.records import Record
+>>> record = Record("oak", "ash", "elm")
+>>> record.note("sits", "ash", "oak")
+>>> record.note("refuses", "elm", "oak")
+>>> paper = SitsCertificate("ash", "oak", [1])
+>>> first = paper.holds(record)
+>>> record.retract(1)
+>>> [first, paper.holds(record)]
+[True, False]
+
+>>> from chairstack.orders import Order
+>>> from chairstack.stacks import check_stacks, fewest_stacks
+>>> order = Order(["oak", "ash", "elm"], [("ash", "oak"), ("elm", "oak")])
+>>> chairs = ["oak", "ash", "elm", "ash"]
+>>> stacks, spread = fewest_stacks(order, chairs)
+>>> [len(stacks), len(spread), check_stacks(order, chairs, stacks, spread)]
+[2, 2, True]
+
+>>> from chairstack.orders import Order
+>>> from chairstack.stacks import tallest_stack
+>>> order = Order(["oak", "ash", "elm"], [("ash", "oak"), ("elm", "oak")])
+>>> tallest_stack(order, ["oak", "ash", "elm"], {"oak": 5, "ash": 2, "elm": 3})
+(8, [0, 2], [5, 7, 8])
+
+>>> from chairstack.stacks import cut_stacks
+>>> cut_stacks([[0, 1, 3], [2]], 2)
+[[0, 1], [3], [2]]
+
+>>> from chairstack.queries import gains, next_trial
+>>> from chairstack.records import Record
+>>> record = Record("oak", "ash", "elm")
+>>> record.note("sits", "ash", "oak")
+>>> record.note("refuses", "elm", "oak")
+>>> [list(gains(record)), next_trial(record)]
+[[('oak', 'ash', 1, 1), ('oak', 'elm', 2, 1), ('ash', 'elm', 1, 2)], ('oak', 'elm')]
+
+>>> from chairstack.orders import Order
+>>> from chairstack.queries import settle
+>>> from chairstack.records import Record
+>>> record = Record("oak", "ash", "elm")
+>>> record.note("sits", "ash", "oak")
+>>> record.note("refuses", "elm", "oak")
+>>> settle(record, Order(["oak", "ash", "elm"], [("ash", "oak")]))
+[('refuses', 'oak', 'elm'), ('refuses', 'oak', 'ash'), ('refuses', 'ash', 'elm')]
+
+>>> from chairstack.doubt import DoubtfulRecord
+>>> record = DoubtfulRecord("oak", "ash", most_misread=1)
+>>> record.note("sits", "ash", "oak")
+>>> record.note("sits", "ash", "oak")
+>>> record.note("refuses", "ash", "oak")
+>>> [record.verdict("ash", "oak"), record.suspects(), record.surely_misread(), record.surely_right()]
+['sits', [3], [3], [1, 2]]
+
+>>> from chairstack.doubt import DoubtfulRecord
+>>> record = DoubtfulRecord("oak", "ash")
+>>> record.note("sits", "ash", "oak")
+>>> before = record.verdict("ash", "oak")
+>>> record.note("sits", "ash", "oak")
+>>> paper = record.certify("ash", "oak")
+>>> [before, paper.claim(), paper.holds(record)]
+['open', 'ash on oak: sits', True]
 '''
 
 
@@ -103,7 +175,7 @@ class Examples(unittest.TestCase):
 
     def test_examples(self):
         examples = EXAMPLES.strip().split("\n\n")
-        self.assertEqual(len(examples), 12)
+        self.assertEqual(len(examples), 21)
         for text in examples:
             with self.subTest(text):
                 self.run_example(text)

@@ -21,6 +21,22 @@ FUNCTIONS = {
         "all_orders": "(record)",
         "alike": "(record, first, second)",
     },
+    "certificates": {
+        "certify": "(record, upper, lower)",
+    },
+    "stacks": {
+        "fewest_stacks": "(order, chairs)",
+        "check_stacks": "(order, chairs, stacks, spread)",
+        "tallest_stack": "(order, chairs, heights)",
+        "check_tallest": "(order, chairs, heights, height, stack, levels)",
+        "cut_stacks": "(stacks, limit)",
+    },
+    "queries": {
+        "gain": "(record, upper, lower)",
+        "gains": "(record)",
+        "next_trial": "(record)",
+        "settle": "(record, hidden)",
+    },
 }
 CLASSES = {
     "orders": {
@@ -54,10 +70,54 @@ CLASSES = {
             "copy": "(self)",
         },
     },
+    "certificates": {
+        "Certificate": {
+            "__init__": "(self, upper, lower)",
+            "claim": "(self)",
+            "holds": "(self, record)",
+        },
+        "SitsCertificate": {
+            "__init__": "(self, upper, lower, path)",
+            "holds": "(self, record)",
+        },
+        "RefusesCertificate": {
+            "__init__": "(self, upper, lower, before, number, after)",
+            "holds": "(self, record)",
+        },
+        "OpenCertificate": {
+            "__init__": "(self, upper, lower, lacking, having)",
+            "holds": "(self, record)",
+        },
+    },
+    "doubt": {
+        "DoubtfulRecord": {
+            "__init__": "(self, *makes, most_misread=1)",
+            "change_most": "(self, value)",
+            "note": "(self, word, upper, lower)",
+            "admits": "(self, order)",
+            "least_misread": "(self)",
+            "suspects": "(self)",
+            "verdict": "(self, upper, lower)",
+            "surely_misread": "(self)",
+            "surely_right": "(self)",
+            "certify": "(self, upper, lower)",
+            "copy": "(self)",
+        },
+        "CaseCertificate": {
+            "__init__": "(self, upper, lower, word, cases)",
+            "claim": "(self)",
+            "holds": "(self, record)",
+        },
+    },
 }
-PROPERTIES = (("orders", "Order", "makes"), ("records", "TrialList", "makes"), ("records", "TrialList", "trial_count"))
+PROPERTIES = (
+    ("orders", "Order", "makes"),
+    ("records", "TrialList", "makes"),
+    ("records", "TrialList", "trial_count"),
+    ("doubt", "DoubtfulRecord", "most_misread"),
+)
 OPERATORS = ("__contains__", "__len__", "__eq__", "__ne__", "__and__", "__or__")
-GENERATORS = (("verdicts", "open_pairs"), ("verdicts", "all_orders"))
+GENERATORS = (("verdicts", "open_pairs"), ("verdicts", "all_orders"), ("queries", "gains"))
 
 
 def module(name):
@@ -100,6 +160,18 @@ class Interface(unittest.TestCase):
     def test_record_inherits_the_rest(self):
         records = module("records")
         self.assertEqual(records.Record.__bases__, (records.TrialList,))
+        self.assertEqual(module("doubt").DoubtfulRecord.__bases__, (records.TrialList,))
+
+    def test_certificates_are_subclasses(self):
+        certificates = module("certificates")
+        for kind in (
+            certificates.SitsCertificate,
+            certificates.RefusesCertificate,
+            certificates.OpenCertificate,
+            module("doubt").CaseCertificate,
+        ):
+            self.assertTrue(issubclass(kind, certificates.Certificate))
+            self.assertIn("CLAIM", vars(kind))
 
 
 class Form(unittest.TestCase):

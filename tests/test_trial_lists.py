@@ -1,15 +1,17 @@
-"""Points 2 and 11 to 16, for TrialList and for what Record inherits of it."""
+"""Points 2 and 11 to 16, for TrialList and for what Record and DoubtfulRecord inherit of it."""
 
 import unittest
 
 from caught import check_raises, state
+from chairstack.doubt import DoubtfulRecord
 from chairstack.errors import DuplicateMake, Full, InvalidName, InvalidWord, UnknownMake, UnknownTrial, UnlikeMakes
 from chairstack.orders import Order
 from chairstack.records import Record, TrialList
 from plain import WOODS, agrees, every_order
 
 THREE = ["oak", "ash", "elm"]
-KINDS = (TrialList, Record)
+STRICT_KINDS = (TrialList, Record)
+KINDS = (*STRICT_KINDS, DoubtfulRecord)
 
 
 def filled(kind, count):
@@ -183,7 +185,7 @@ class Agreement(unittest.TestCase):
                 self.assertIs(record.admits(order), False)
 
     def test_admits(self):
-        for kind in KINDS:
+        for kind in STRICT_KINDS:
             record = kind(*THREE)
             self.assertIs(record.admits(Order.bare(THREE)), True)
             record.note("sits", "ash", "oak")
