@@ -1,5 +1,18 @@
 """The errors of the program: each kind of failure has a class of its own."""
 
+LONGEST_SHOWN = 64
+
+
+def _shown(number):
+    """The number as text for a message, if it has few bits."""
+    # Python refuses to write out a number of thousands of digits, and an error has to be made all the same.
+    return f"{number}" if number.bit_length() <= LONGEST_SHOWN else "a number of many digits"
+
+
+def _listed(numbers):
+    """The numbers as text for a message."""
+    return ", ".join([_shown(number) for number in numbers])
+
 
 class ChairError(ValueError):
     """The base class of all errors of the program."""
@@ -25,8 +38,7 @@ class UnknownMake(ChairError):
 
 class InvalidNumber(ChairError):
     def __init__(self, number):
-        # The message does not show the number: Python refuses to write out one of thousands of digits.
-        super().__init__("this number is out of range")
+        super().__init__(f"this number is out of range: {_shown(number)}")
         self.number = number
 
 
@@ -38,7 +50,7 @@ class InvalidWord(ChairError):
 
 class Full(ChairError):
     def __init__(self, most):
-        super().__init__(f"there is no room for more than {most}")
+        super().__init__(f"there is no room for more than {_shown(most)}")
         self.most = most
 
 
@@ -49,13 +61,13 @@ class UnlikeMakes(ChairError):
 
 class UnknownTrial(ChairError):
     def __init__(self, number):
-        super().__init__("no trial with this number is kept")
+        super().__init__(f"no trial with this number is kept: {_shown(number)}")
         self.number = number
 
 
 class Contradiction(ChairError):
     def __init__(self, numbers):
-        super().__init__(f"the kept trials with these numbers speak against it: {numbers}")
+        super().__init__(f"the kept trials with these numbers speak against it: {_listed(numbers)}")
         self.numbers = list(numbers)
 
 
@@ -75,27 +87,27 @@ class AlreadySettled(ChairError):
 
 class TooDoubtful(ChairError):
     def __init__(self, most):
-        super().__init__(f"no order disagrees with at most {most} of the trials")
+        super().__init__(f"no order disagrees with at most so many of the trials: {_shown(most)}")
         self.most = most
 
 
 class CannotGrant(ChairError):
     def __init__(self, indexes, numbers):
-        super().__init__(f"the wishes {indexes} cannot stand together with the trials {numbers}")
+        super().__init__(f"the wishes {_listed(indexes)} cannot stand; trials against them: {_listed(numbers)}")
         self.indexes = list(indexes)
         self.numbers = list(numbers)
 
 
 class NotEnough(ChairError):
     def __init__(self, make, available):
-        super().__init__(f"chairs of the make {make} that are available: {available}")
+        super().__init__(f"chairs of the make {make} that are available: {_shown(available)}")
         self.make = make
         self.available = available
 
 
 class UnknownLoan(ChairError):
     def __init__(self, number):
-        super().__init__("there is no loan with this number")
+        super().__init__(f"there is no loan with this number: {_shown(number)}")
         self.number = number
 
 
@@ -117,5 +129,5 @@ class InvalidRow(ChairError):
 
 class RowFailed(ChairError):
     def __init__(self, row_index):
-        super().__init__(f"the row with this index failed: {row_index}")
+        super().__init__(f"the row with this index failed: {_shown(row_index)}")
         self.row_index = row_index

@@ -55,11 +55,32 @@ class ErrorClasses(unittest.TestCase):
                 getattr(errors, name)(*attributes.values(), "more")
 
     def test_numbers_of_any_size(self):
-        for name in ("InvalidNumber", "UnknownTrial", "UnknownLoan"):
-            for number in (10 ** 5000, -10 ** 5000):
-                error = getattr(errors, name)(number)
-                self.assertEqual(error.number, number)
-                self.assertIsInstance(str(error), str)
+        seen = []
+        for name, attributes in ARGUMENTS.items():
+            for word, value in attributes.items():
+                for long in (10 ** 5000, -10 ** 5000):
+                    # assertEqual would write the numbers out, which Python refuses to do.
+                    if type(value) is int:
+                        error = getattr(errors, name)(**{**attributes, word: long})
+                        self.assertTrue(getattr(error, word) == long, name)
+                    elif type(value) is list:
+                        error = getattr(errors, name)(**{**attributes, word: [1, long, 2]})
+                        self.assertTrue(getattr(error, word) == [1, long, 2], name)
+                    else:
+                        continue
+                    self.assertIsInstance(str(error), str)
+                    self.assertIsInstance(repr(error), str)
+                    seen.append(word)
+        self.assertEqual(len(seen), 2 * 10)
+
+    def test_messages_show_short_numbers(self):
+        for number in (0, -7, 60, 10 ** 18):
+            for name, attributes in ARGUMENTS.items():
+                for word, value in attributes.items():
+                    if type(value) in (int, list):
+                        given = number if type(value) is int else [number]
+                        error = getattr(errors, name)(**{**attributes, word: given})
+                        self.assertIn(str(number), str(error), name)
 
     def test_lists_are_copied(self):
         numbers, indexes = [1, 2], [0]
