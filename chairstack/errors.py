@@ -4,9 +4,11 @@ LONGEST_SHOWN = 64
 
 
 def _shown(number):
-    """The number as text for a message, if it has few bits."""
+    """The number as text for a message, unless it is very long."""
     # Python refuses to write out a number of thousands of digits, and an error has to be made all the same.
-    return f"{number}" if number.bit_length() <= LONGEST_SHOWN else "a number of many digits"
+    if isinstance(number, int) and number.bit_length() > LONGEST_SHOWN:
+        return "a number of many digits"
+    return f"{number}"
 
 
 def _listed(numbers):

@@ -1,6 +1,6 @@
 """Stacks of single chairs: as few as possible, as tall as possible, and the checks of both."""
 
-from chairstack.errors import InvalidNumber
+from chairstack.checks import check_from_one
 from chairstack.names import check_known
 
 
@@ -53,8 +53,7 @@ def check_tallest(order, chairs, heights, height, stack, levels):
 
 def cut_stacks(stacks, limit):
     """The stacks cut from the floor up into pieces of so many chairs; the last piece of a stack may be smaller."""
-    if limit < 1:
-        raise InvalidNumber(limit)
+    check_from_one(limit)
     return [stack[start:start + limit] for stack in stacks for start in range(0, len(stack), limit)]
 
 

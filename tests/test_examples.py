@@ -1,4 +1,4 @@
-"""Every example of the interface up to doubtful records, as DOC.md shows it."""
+"""Every example of the interface, as DOC.md shows it."""
 
 import ast
 import unittest
@@ -148,6 +148,63 @@ raises NoGreatest(first='elm', middle='ash', last='oak')
 >>> paper = record.certify("ash", "oak")
 >>> [before, paper.claim(), paper.holds(record)]
 ['open', 'ash on oak: sits', True]
+
+>>> from chairstack.wishes import standing, trials_to_ask
+>>> from chairstack.records import Record
+>>> record = Record("oak", "ash", "elm")
+>>> record.note("refuses", "elm", "oak")
+>>> [standing(record, "oak", "ash", "elm"), trials_to_ask(record, "oak", "ash", "elm")]
+['falls', [('ash', 'oak'), ('elm', 'ash')]]
+
+>>> from chairstack.wishes import grant
+>>> from chairstack.records import Record
+>>> record = Record("oak", "ash", "elm")
+>>> record.note("refuses", "elm", "oak")
+>>> grant(record, [["elm", "oak"], ["oak", "ash"], ["ash", "elm"]])
+raises CannotGrant(indexes=[1, 2], numbers=[1])
+
+>>> from chairstack.wishes import most_granted
+>>> from chairstack.records import Record
+>>> record = Record("oak", "ash", "elm")
+>>> record.note("refuses", "elm", "oak")
+>>> most_granted(record, [["elm", "oak"], ["oak", "ash"], ["ash", "elm"]])
+[0, 1]
+
+>>> from chairstack.hall import Hall
+>>> hall = Hall("oak", "ash")
+>>> hall.bring(("oak", 1), oak=1, ash=3)
+>>> hall.lend("anna", "ash", 2)
+>>> before = hall.counts("ash")
+>>> hall.undo()
+>>> [before, hall.counts("ash"), hall.counts("oak"), hall.redo_count]
+[(3, 1, 2), (3, 3, 0), (2, 2, 0), 1]
+
+>>> from chairstack.hall import Hall
+>>> hall = Hall("oak", limit=2)
+>>> hall.bring(oak=5)
+>>> [hall.fewest(), hall.plan(), hall.tallest()]
+[1, [['oak', 'oak'], ['oak', 'oak'], ['oak']], (5, ['oak', 'oak', 'oak', 'oak', 'oak'])]
+
+>>> from chairstack.hall import Hall
+>>> from chairstack.desk import Desk
+>>> hall = Hall("oak")
+>>> desk = Desk(hall)
+>>> [desk.run("make ash 7"), desk("saw oak ash ash"), desk("ask ash oak"), desk("ask oak ash"), desk("next"), desk.rows_run]
+['ok', 'trials 1 2', 'sits', 'open', 'oak ash', 5]
+
+>>> from chairstack.hall import Hall
+>>> from chairstack.desk import Desk
+>>> desk = Desk(Hall("oak"))
+>>> desk.run_all(["bring oak 1", "bring fir 1"])
+raises RowFailed(row_index=1)
+
+>>> from chairstack.tables import verdict_table
+>>> from chairstack.records import Record
+>>> record = Record("oak", "ash", "elm")
+>>> record.note("sits", "ash", "oak")
+>>> record.note("refuses", "elm", "oak")
+>>> verdict_table(record)
+['oak          + ? ?', 'ash          + + ?', 'elm          - - +']
 '''
 
 
@@ -175,7 +232,7 @@ class Examples(unittest.TestCase):
 
     def test_examples(self):
         examples = EXAMPLES.strip().split("\n\n")
-        self.assertEqual(len(examples), 21)
+        self.assertEqual(len(examples), 29)
         for text in examples:
             with self.subTest(text):
                 self.run_example(text)

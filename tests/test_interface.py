@@ -37,6 +37,17 @@ FUNCTIONS = {
         "next_trial": "(record)",
         "settle": "(record, hidden)",
     },
+    "wishes": {
+        "standing": "(record, *stack)",
+        "trials_to_ask": "(record, *stack)",
+        "grant": "(record, wishes)",
+        "most_granted": "(record, wishes)",
+    },
+    "tables": {
+        "verdict_table": "(record)",
+        "gain_table": "(record)",
+        "loan_table": "(hall)",
+    },
 }
 CLASSES = {
     "orders": {
@@ -109,12 +120,50 @@ CLASSES = {
             "holds": "(self, record)",
         },
     },
+    "hall": {
+        "Hall": {
+            "__init__": "(self, *makes, limit=10)",
+            "add_make": "(self, name, *, height=1)",
+            "note": "(self, word, upper, lower)",
+            "saw": "(self, *stack)",
+            "retract": "(self, number)",
+            "bring": "(self, *lots, **counts)",
+            "scrap": "(self, make, count)",
+            "lend": "(self, borrower, make, count)",
+            "give_back": "(self, number, count=None)",
+            "change_limit": "(self, value)",
+            "record": "(self)",
+            "heights": "(self)",
+            "counts": "(self, make)",
+            "loans": "(self)",
+            "chairs": "(self)",
+            "fewest": "(self)",
+            "plan": "(self)",
+            "tallest": "(self)",
+            "undo": "(self)",
+            "redo": "(self)",
+            "copy": "(self)",
+        },
+    },
+    "desk": {
+        "Desk": {
+            "__init__": "(self, hall)",
+            "run": "(self, row)",
+            "run_all": "(self, rows)",
+            "__call__": "(self, row)",
+        },
+    },
 }
 PROPERTIES = (
     ("orders", "Order", "makes"),
     ("records", "TrialList", "makes"),
     ("records", "TrialList", "trial_count"),
     ("doubt", "DoubtfulRecord", "most_misread"),
+    ("hall", "Hall", "makes"),
+    ("hall", "Hall", "limit"),
+    ("hall", "Hall", "undo_count"),
+    ("hall", "Hall", "redo_count"),
+    ("desk", "Desk", "rows_run"),
 )
 OPERATORS = ("__contains__", "__len__", "__eq__", "__ne__", "__and__", "__or__")
 GENERATORS = (("verdicts", "open_pairs"), ("verdicts", "all_orders"), ("queries", "gains"))
